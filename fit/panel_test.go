@@ -260,7 +260,7 @@ func TestPanelsAndFits(t *testing.T) {
 			t.Fatalf("LeastGroove %v, %v: %d", p, l, depth)
 		}
 		deeper, _ := fit.Grooves(p, depth+random.IntN(300001-depth))
-		if is, b := holds(t, deeper[0], l...); !is && len(l) > 0 {
+		if is, b := holds(t, deeper[0], l...); !is {
 			t.Fatalf("deeper than %d, %v, %v: %v", depth, p, l, b)
 		}
 		size, e := fit.GreatestPanel(p, depth, l)
